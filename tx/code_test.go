@@ -2,7 +2,6 @@ package tx_test
 
 import (
 	"bytes"
-	"reflect"
 	"slices"
 	"testing"
 
@@ -288,15 +287,5 @@ func TestP9_1Lengths(t *testing.T) {
 		expectError(t, "100000 bytes, which are not there", hexed(t, front+most+"00"), api.ErrEnd)
 		expectError(t, "100001 bytes, which are not there", hexed(t, front+more+"00"), api.ErrSize)
 		expectError(t, "100001 bytes, nothing follows", hexed(t, front+more), api.ErrSize)
-	}
-}
-
-// TestP9_1ZeroWithError: beside an error every field is zero.
-func TestP9_1ZeroWithError(t *testing.T) {
-	b := tx.Encode(withInputs()[3], true)
-	for _, bad := range [][]byte{b[:len(b)-1], append(slices.Clone(b), 0), make([]byte, 100001)} {
-		if got, err := tx.Decode(bad); err == api.OK || !reflect.DeepEqual(got, api.Tx{}) {
-			t.Errorf("error %d beside %+v", err, got)
-		}
 	}
 }
