@@ -1,10 +1,6 @@
 package vm
 
-import (
-	"math"
-
-	"strongbox/api"
-)
+import "math"
 
 const (
 	// firstTime is the least Lock that is a time; what is less is a height.
@@ -17,34 +13,28 @@ const (
 	firstAged = 2
 )
 
-// lock returns the number that an operation holds against a lock; it remains on the stack.
-func (m *machine) lock() int64 {
-	n := numberOf(m.top(), longNumber)
-	insist(n >= 0)
-	return n
-}
-
-// input returns the input that the script is run for.
-func (m *machine) input() api.TxIn {
-	insist(0 <= m.Index && m.Index < len(m.Tx.In))
-	return m.Tx.In[m.Index]
+// lock returns the number that an operation holds against a lock, which remains on the stack, and the Seq of the input that the script is run for. Every lock fails without that input, even one that doesn't ask its Seq.
+func (m *machine) lock() (n, seq int64) {
+	n = numberOf(m.top(), longNumber)
+	insist(n >= 0 && 0 <= m.Index && m.Index < len(m.Tx.In))
+	return n, int64(m.Tx.In[m.Index].Seq)
 }
 
 // lockTime fails before the height or time that the top says.
 func (m *machine) lockTime() {
-	n, lock := m.lock(), int64(m.Tx.Lock)
+	n, seq := m.lock()
+	lock := int64(m.Tx.Lock)
 	insist((n < firstTime) == (lock < firstTime) && n <= lock)
 	// A transaction all of whose inputs have this Seq is final whatever its Lock says.
-	insist(m.input().Seq != math.MaxUint32)
+	insist(seq != math.MaxUint32)
 }
 
 // lockAge fails unless the input's Seq says at least the age that the top says.
 func (m *machine) lockAge() {
-	n := m.lock()
+	n, seq := m.lock()
 	if n&noAge != 0 {
 		return
 	}
-	seq := int64(m.input().Seq)
 	insist(uint32(m.Tx.Version) >= firstAged && seq&noAge == 0)
 	insist(n&ageForm == seq&ageForm && n&age <= seq&age)
 }

@@ -100,7 +100,7 @@ func TestP13_1LockItems(t *testing.T) {
 	expectLock(t, true, 0xb2, plainItem(1<<39-1), locked(2, 0, 0))
 }
 
-// TestP13_1LockNoInput: a lock fails without the input that it asks; a number with the bit 2^31 asks none.
+// TestP13_1LockNoInput: a lock fails without the input that the script is run for, whatever its number is.
 func TestP13_1LockNoInput(t *testing.T) {
 	for _, i := range []int{-1, 3, 4, math.MinInt, math.MaxInt} {
 		set := locked(2, 100, 100)
@@ -113,12 +113,38 @@ func TestP13_1LockNoInput(t *testing.T) {
 			expectLock(t, false, 0xb1, plainItem(n), set)
 			expectLock(t, false, 0xb2, plainItem(n), set)
 		}
-		expectLock(t, false, 0xb1, plainItem(1<<31), set)
-		expectLock(t, true, 0xb2, plainItem(1<<31), set)
 		expectLock(t, false, 0xb2, plainItem(-1<<31), set)
 	}
-	expectLock(t, false, 0xb1, nil, vm.Setting{})
-	expectLock(t, false, 0xb2, nil, vm.Setting{})
+}
+
+// TestP13_1LockNoEffect: a number with the bit 2^31 has no effect for B2, whatever Version and Seq are, but fails as any other one without an input.
+func TestP13_1LockNoEffect(t *testing.T) {
+	for _, n := range []int64{1 << 31, 1<<31 | 1, 1<<31 | 1<<22, 1<<32 - 1, 1<<32 | 1<<31, 1<<39 - 1} {
+		for _, version := range []int32{-1, 0, 1, 2} {
+			for _, seq := range []uint32{0, 1 << 22, 1 << 31, math.MaxUint32} {
+				set := locked(version, math.MaxUint32, seq)
+				for i := range set.Tx.In {
+					set.Index = i
+					expectLock(t, true, 0xb2, plainItem(n), set)
+				}
+				expectNoInput(t, plainItem(n), set)
+			}
+		}
+	}
+	for _, n := range []int64{0, 1, 1 << 31, 1<<39 - 1} {
+		expectNoInput(t, plainItem(n), vm.Setting{})
+		expectNoInput(t, plainItem(n), vm.Setting{Tx: api.Tx{Version: 2, Lock: math.MaxUint32}})
+	}
+}
+
+// expectNoInput: both locks fail at each Index without an input.
+func expectNoInput(t *testing.T, item []byte, set vm.Setting) {
+	t.Helper()
+	for _, i := range []int{-1, len(set.Tx.In), len(set.Tx.In) + 1, math.MinInt, math.MaxInt} {
+		set.Index = i
+		expectLock(t, false, 0xb1, item, set)
+		expectLock(t, false, 0xb2, item, set)
+	}
 }
 
 // TestP13_1LockOtherInputs: only the input that the script is run for is asked.

@@ -451,15 +451,11 @@ func (p *plain) lock(code byte) {
 		return
 	}
 	n, ok := plainNumber(p.st[i], 5)
-	if !ok || n < 0 {
+	if !ok || n < 0 || p.set.Index < 0 || p.set.Index >= len(p.set.Tx.In) {
 		p.bad = true
 		return
 	}
 	if code == 0xb2 && n>>31&1 == 1 {
-		return
-	}
-	if p.set.Index < 0 || p.set.Index >= len(p.set.Tx.In) {
-		p.bad = true
 		return
 	}
 	seq, lock := p.set.Tx.In[p.set.Index].Seq, int64(p.set.Tx.Lock)
